@@ -1,0 +1,1 @@
+"""Manyleaves: trees with many leaves."""

@@ -1,0 +1,150 @@
+"""Small webs gone through whole, and plain judges of busy sets, whys, shares and what is thin.
+
+The judges go by the words of the document, in another way than the program does.
+"""
+
+import itertools
+import math
+from fractions import Fraction
+
+from samples import all_webs, comb, full, is_int, ladder, lots, most_ties, ring, star, way
+
+
+def mixed(n, k):
+    """A web of no plain form: each place tied to one ahead of it, and some ties more."""
+    ties = {((b * k + 1) % b, b) for b in range(1, n)}
+    ties |= {(a, b) for a, b in full(n)[1] if (a * 5 + b * b + k) % (7 if n < 20 else 13) == 0}
+    return (n, tuple(sorted(ties)))
+
+
+def tiny_webs():
+    """Webs of three to five places, for what is gone through wholly."""
+    return list(all_webs(3)) + list(all_webs(4)) + list(all_webs(5))[::61]
+
+
+def small_webs():
+    """Webs of three to nine places."""
+    webs = [way(3), full(3), ring(4), star(5, 2), full(5), ladder(3), comb(3), way(7), ring(7), ladder(4), comb(4)]
+    return webs + [mixed(n, k) for n, k in ((5, 1), (6, 2), (7, 3), (8, 4), (9, 5), (9, 11))]
+
+
+def great_webs():
+    """Webs of sixty places."""
+    return [way(60), ring(60), star(60, 30), comb(30), ladder(30), mixed(60, 7), most_ties(200)]
+
+
+def choices(places):
+    """All rising tuples of some places."""
+    for k in range(len(places) + 1):
+        yield from itertools.combinations(places, k)
+
+
+def all_states(n):
+    """All states of n places."""
+    for marks in itertools.product((0, 1, 2), repeat=n):
+        yield tuple(p for p in range(n) if marks[p] == 1), tuple(p for p in range(n) if marks[p] == 2)
+
+
+def some_states(n, step):
+    """Some of all states, those with nothing held and nothing barred among them."""
+    everything = tuple(range(n))
+    yield from (((), ()), (everything, ()), ((), everything), ((0,), everything[1:]), (everything[1:], (0,)))
+    yield from itertools.islice(all_states(n), 0, None, step)
+
+
+def price_rows(n):
+    """Some prices of n places."""
+    mixed_up = tuple(1 + p * p % 5 for p in range(n)), tuple(1 + (n - p) * 7 % 11 for p in range(n))
+    return [(1,) * n, (1000,) * n, *mixed_up]
+
+
+def lot(web, place):
+    return {place} | {a for a, b in web[1] if b == place} | {b for a, b in web[1] if a == place}
+
+
+def is_places(n, thing):
+    """Whether a thing is a rising tuple of places."""
+    if type(thing) is not tuple or not all(is_int(item) and 0 <= item < n for item in thing):
+        return False
+    return list(thing) == sorted(set(thing))
+
+
+def is_busy_set(web, thing):
+    if not is_places(web[0], thing) or not thing:
+        return False
+    between = [(thing.index(a), thing.index(b)) for a, b in web[1] if a in thing and b in thing]
+    if len(lots(len(thing), between)) != 1:
+        return False
+    return all(lot(web, place) & set(thing) for place in range(web[0]))
+
+
+def busy_sets(web):
+    """All busy sets of a web."""
+    return [some for some in choices(range(web[0])) if is_busy_set(web, some)]
+
+
+def keeping(sets, held, barred):
+    """Those of some sets that keep a state."""
+    return [some for some in sets if set(held) <= set(some) and not set(barred) & set(some)]
+
+
+def is_why(web, held, barred, thing):
+    if type(thing) is not tuple or not thing or type(thing[0]) is not str:
+        return False
+    if thing[0] == "bare" and len(thing) == 2:
+        return is_places(web[0], thing[1:]) and lot(web, thing[1]) <= set(barred)
+    if thing[0] != "apart" or len(thing) != 4 or not is_places(web[0], thing[1]):
+        return False
+    if not is_places(web[0], thing[2:3]) or not is_places(web[0], thing[3:]):
+        return False
+    side, p, q = thing[1:]
+    for a, b in web[1]:
+        if (a in side) != (b in side) and (a if b in side else b) not in barred:
+            return False
+    on_side = p in side if p in held else all(x in side or x in barred for x in lot(web, p))
+    off_side = q not in side if q in held else all(x not in side or x in barred for x in lot(web, q))
+    return on_side and off_side and not set(side) & set(barred)
+
+
+def is_share_row(n, thing):
+    if type(thing) is not tuple or len(thing) != 3 or not all(map(is_int, thing)):
+        return False
+    return 0 <= thing[0] < n and thing[1] > 0 and thing[2] > 0 and math.gcd(thing[1], thing[2]) == 1
+
+
+def is_shares(web, prices, held, barred, thing):
+    n = web[0]
+    if type(thing) is not tuple or not all(is_share_row(n, row) for row in thing):
+        return False
+    if not is_places(n, tuple(row[0] for row in thing)):
+        return False
+    if any(lot(web, row[0]) & set(held) for row in thing):
+        return False
+    asked = [Fraction(0) for place in range(n)]
+    for p, top, bottom in thing:
+        for place in lot(web, p):
+            asked[place] += Fraction(top, bottom)
+    return all(asked[p] <= prices[p] for p in range(n) if p not in held and p not in barred)
+
+
+def raised_by_ones(web, prices, held, barred, order):
+    """The shares that are raised, each by ones as long as they are right."""
+    rows = ()
+    for p in order:
+        if lot(web, p) <= set(barred):
+            continue
+        share = 0
+        while is_shares(web, prices, held, barred, tuple(sorted(rows + ((p, share + 1, 1),)))):
+            share += 1
+        if share:
+            rows += ((p, share, 1),)
+    return tuple(sorted(rows))
+
+
+def is_thin(web, held, barred, limit):
+    """Whether no choice of so many free places beside the held ones reaches all places."""
+    gains = [len(lot(web, place)) - 2 for place in range(web[0])]
+    free = [place for place in range(web[0]) if place not in held and place not in barred]
+    many = min(len(free), max(0, limit - len(held)))
+    best = max(sum(gains[place] for place in some) for some in itertools.combinations(free, many))
+    return 2 + sum(gains[place] for place in held) + best < web[0]

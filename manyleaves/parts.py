@@ -41,6 +41,11 @@ def free_places(web, held, barred):
     return places_but(web, held + barred)
 
 
+def with_place(places, place):
+    """Some places and one more, rising."""
+    return tuple(sorted(places + (place,)))
+
+
 def price_of(prices, places):
     """The price of some places together."""
     return sum([prices[place] for place in places])

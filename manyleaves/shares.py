@@ -50,11 +50,23 @@ def right_shares(web, prices, held, barred, thing):
     return are_within_prices(web, prices, free_places(web, held, barred), thing)
 
 
+def worth_added(prices, held, shares):
+    """All shares and the price of the held places together, a fraction perhaps not in lowest terms."""
+    fractions = [(top, bottom) for place, top, bottom in shares]
+    return added([(price_of(prices, held), 1)] + fractions)
+
+
 def worth_of(prices, held, shares):
     """All shares and the price of the held places together, a fraction in lowest terms."""
-    fractions = [(top, bottom) for place, top, bottom in shares]
-    top, bottom = added([(price_of(prices, held), 1)] + fractions)
+    top, bottom = worth_added(prices, held, shares)
     return lowest(top, bottom)
+
+
+def is_worth_above(prices, held, shares, limit):
+    """Whether the worth of shares is above a limit."""
+    # Lowest terms of long fractions take their time, and are not needed here.
+    top, bottom = worth_added(prices, held, shares)
+    return top > limit * bottom
 
 
 def share_left(lot, left, held, barred):

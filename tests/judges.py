@@ -1,8 +1,9 @@
-"""Small webs gone through whole, and plain judges of busy sets, whys, shares and what is thin.
+"""Small webs gone through whole, and plain judges of busy sets and of the papers about them.
 
 The judges go by the words of the document, in another way than the program does.
 """
 
+import functools
 import itertools
 import math
 from fractions import Fraction
@@ -26,6 +27,12 @@ def small_webs():
     """Webs of three to nine places."""
     webs = [way(3), full(3), ring(4), star(5, 2), full(5), ladder(3), comb(3), way(7), ring(7), ladder(4), comb(4)]
     return webs + [mixed(n, k) for n, k in ((5, 1), (6, 2), (7, 3), (8, 4), (9, 5), (9, 11))]
+
+
+def webs_of(n):
+    """Webs of so many places, an even number, thin ones and thick ones."""
+    webs = [way(n), ring(n), star(n, n // 2), comb(n // 2), ladder(n // 2), full(n)]
+    return webs + [mixed(n, k) for k in (1, 4, 6)]
 
 
 def great_webs():
@@ -78,14 +85,24 @@ def is_busy_set(web, thing):
     return all(lot(web, place) & set(thing) for place in range(web[0]))
 
 
+@functools.lru_cache(maxsize=None)
 def busy_sets(web):
     """All busy sets of a web."""
-    return [some for some in choices(range(web[0])) if is_busy_set(web, some)]
+    return tuple(some for some in choices(range(web[0])) if is_busy_set(web, some))
 
 
 def keeping(sets, held, barred):
     """Those of some sets that keep a state."""
     return [some for some in sets if set(held) <= set(some) and not set(barred) & set(some)]
+
+
+def price(prices, places):
+    return sum(prices[place] for place in places)
+
+
+def least_kept(web, prices, held, barred):
+    """The least price of a busy set that keeps a state, None where there is none."""
+    return min([price(prices, some) for some in keeping(busy_sets(web), held, barred)], default=None)
 
 
 def is_why(web, held, barred, thing):
@@ -148,3 +165,74 @@ def is_thin(web, held, barred, limit):
     many = min(len(free), max(0, limit - len(held)))
     best = max(sum(gains[place] for place in some) for some in itertools.combinations(free, many))
     return 2 + sum(gains[place] for place in held) + best < web[0]
+
+
+def worth(prices, held, shares):
+    return price(prices, held) + sum(Fraction(top, bottom) for p, top, bottom in shares)
+
+
+def is_cases(web, prices, held, barred, limit, thing):
+    if type(thing) is not tuple or not thing or type(thing[0]) is not str:
+        return False
+    if thing == ("over",):
+        return price(prices, held) > limit
+    if thing == ("thin",):
+        return set(prices) == {1} and is_thin(web, held, barred, limit)
+    if thing[0] == "shares" and len(thing) == 2:
+        return is_shares(web, prices, held, barred, thing[1]) and worth(prices, held, thing[1]) > limit
+    if thing[0] == "part" and len(thing) == 4:
+        if not is_places(web[0], thing[1:2]) or thing[1] in held or thing[1] in barred:
+            return False
+        more_held, more_barred = tuple(sorted({*held, thing[1]})), tuple(sorted({*barred, thing[1]}))
+        return (is_cases(web, prices, more_held, barred, limit, thing[2])
+                and is_cases(web, prices, held, more_barred, limit, thing[3]))
+    return is_why(web, held, barred, thing)
+
+
+def whys_of(n):
+    """All things of n places that have the form of a why."""
+    for p in range(n):
+        yield ("bare", p)
+        for side in choices(range(n)):
+            for q in range(n):
+                yield ("apart", side, p, q)
+
+
+def is_lean(web, busy):
+    """Whether a busy set is none without any one of its places."""
+    return not any(is_busy_set(web, tuple(p for p in busy if p != place)) for place in busy)
+
+
+def is_need(web, busy, place, thing):
+    if type(thing) is not tuple or len(thing) != 2 or type(thing[0]) is not str:
+        return False
+    if thing[0] == "own":
+        return is_places(web[0], thing[1:]) and lot(web, thing[1]) & set(busy) == {place}
+    if thing[0] != "parts" or not is_places(web[0], thing[1]):
+        return False
+    side = set(thing[1])
+    rest = set(busy) - {place} - side
+    if not side or not rest or not side <= set(busy) - {place}:
+        return False
+    return not any((a in side and b in rest) or (b in side and a in rest) for a, b in web[1])
+
+
+def is_needs(web, busy, thing):
+    if type(thing) is not tuple or len(thing) != len(busy):
+        return False
+    return all(is_need(web, busy, place, need) for place, need in zip(busy, thing))
+
+
+def is_sure(web, thing):
+    if type(thing) is not tuple or len(thing) != 2 or not is_places(web[0], thing[:1]):
+        return False
+    return is_why(web, (), thing[:1], thing[1])
+
+
+def is_bound(web, prices, thing):
+    if type(thing) is not tuple or len(thing) != 2 or type(thing[0]) is not tuple:
+        return False
+    if not all(is_sure(web, row) for row in thing[0]):
+        return False
+    sure = tuple(row[0] for row in thing[0])
+    return is_places(web[0], sure) and is_shares(web, prices, sure, (), thing[1])

@@ -195,6 +195,15 @@ class Asking(unittest.TestCase):
         """See to it that a deed answers just so."""
         self.assertEqual(repr(self.ask(deed, *things)), repr(answer))
 
+    def refused(self, error, deed, *things):
+        """See to it that a deed is refused, once and again, with just this error, and changes nothing."""
+        ahead = [repr(thing) for thing in things]
+        for time in range(2):
+            with self.assertRaises(error) as caught:
+                deed(*things)
+            self.assertIs(type(caught.exception), error)
+        self.assertEqual([repr(thing) for thing in things], ahead)
+
 
 def is_told(thing):
     """Whether a thing is made of tuples, ints, None, texts, True and False."""

@@ -63,6 +63,12 @@ class States(Asking):
         self.told((), parts.free_places, way(3), (1,), (0, 2))
         self.told(tuple(range(1, 59)), parts.free_places, way(60), (59,), (0,))
 
+    def test_one_place_more(self):
+        self.told((3,), parts.with_place, (), 3)
+        self.told((0, 2, 5), parts.with_place, (2, 5), 0)
+        self.told((2, 3, 5), parts.with_place, (2, 5), 3)
+        self.told((2, 5, 59), parts.with_place, (2, 5), 59)
+
 
 class Numbers(Asking):
 

@@ -146,19 +146,12 @@ class RightWhy(Asking):
         self.told(False, right_why, way(5), (), (2,), ("apart", "01", 0, 4))
         self.told(False, right_why, way(5), (), (2,), (("apart", (0, 1), 0, 4),))
 
-    def all_whys(self, n):
-        for p in range(n):
-            yield ("bare", p)
-            for side in judges.choices(range(n)):
-                for q in range(n):
-                    yield ("apart", side, p, q)
-
     def test_all_whys_of_small_webs_and_that_no_set_keeps_the_state(self):
         for web in list(samples.all_webs(3)) + [way(4), star(4, 1), ring(4), (4, ((0, 1), (0, 2), (1, 2), (2, 3)))]:
             sets = judges.busy_sets(web)
             for held, barred in judges.all_states(web[0]):
                 none_keeps = not judges.keeping(sets, held, barred)
-                for thing in self.all_whys(web[0]):
+                for thing in judges.whys_of(web[0]):
                     right = right_why(web, held, barred, thing)
                     self.assertIs(right, judges.is_why(web, held, barred, thing), (web, held, barred, thing))
                     self.assertTrue(none_keeps or not right, (web, held, barred, thing))

@@ -1,6 +1,6 @@
-"""Places, lots, states, prices and fractions, as the other files need them."""
+"""Places, lots, states, prices, fractions, and things that are the same, as the other files need them."""
 
-from manyleaves.ints import is_between
+from manyleaves.ints import is_between, is_int
 from manyleaves.webs import is_rising, neighbour_rows
 
 
@@ -18,6 +18,19 @@ def is_place_row(web, thing):
             return False
     # Only now are the items surely such as can be compared.
     return is_rising(thing)
+
+
+def is_same(told, thing):
+    """Whether a thing is just what is told, made of tuples and whole numbers."""
+    # == alone would take True for 1.
+    if not isinstance(told, tuple):
+        return is_int(thing) and thing == told
+    if not isinstance(thing, tuple) or len(thing) != len(told):
+        return False
+    for one, other in zip(told, thing):
+        if not is_same(one, other):
+            return False
+    return True
 
 
 def lot_rows(web):

@@ -8,7 +8,7 @@ import itertools
 import math
 from fractions import Fraction
 
-from samples import all_webs, comb, full, is_int, ladder, lots, most_ties, ring, star, way
+from samples import all_trees, all_webs, comb, full, is_int, is_tree, ladder, lots, most_ties, ring, star, way
 
 
 def mixed(n, k):
@@ -57,6 +57,11 @@ def some_states(n, step):
     everything = tuple(range(n))
     yield from (((), ()), (everything, ()), ((), everything), ((0,), everything[1:]), (everything[1:], (0,)))
     yield from itertools.islice(all_states(n), 0, None, step)
+
+
+def some_wishes(n):
+    """Some wishes of n places, from none to all."""
+    return [(), (0,), (n - 1,), (0, n - 1), (1, 2), tuple(range(0, n, 2)), tuple(range(1, n)), tuple(range(n))]
 
 
 def price_rows(n):
@@ -236,3 +241,94 @@ def is_bound(web, prices, thing):
         return False
     sure = tuple(row[0] for row in thing[0])
     return is_places(web[0], sure) and is_shares(web, prices, sure, (), thing[1])
+
+
+def ends_of(n, tree):
+    """The leaves of a tree of n places."""
+    return tuple(p for p in range(n) if sum(p in tie for tie in tree) == 1)
+
+
+def busy_in(n, tree):
+    """The busy places of a tree of n places."""
+    return tuple(p for p in range(n) if sum(p in tie for tie in tree) > 1)
+
+
+def put_for(tree, put, taken):
+    """A tree with one tie in another's stead."""
+    return tuple(sorted((set(tree) - {taken}) | {put}))
+
+
+def rows(web, tree):
+    """All rows of a tree: without each tie it is in two lots, and each tie of the web between these may be put."""
+    n = web[0]
+    found = []
+    for taken in tree:
+        one = lots(n, [tie for tie in tree if tie != taken])[0]
+        for put in web[1]:
+            if put not in tree and (put[0] in one) != (put[1] in one):
+                ends = [end for tie in put_for(tree, put, taken) for end in tie]
+                found.append((put, taken, sum(ends.count(p) == 1 for p in range(n))))
+    return tuple(sorted(found))
+
+
+def twos(web, tree):
+    """All rows of two at once."""
+    found = []
+    for put, taken, leaves in rows(web, tree):
+        for row in rows(web, put_for(tree, put, taken)):
+            found.append((put, taken) + row)
+    return tuple(sorted(found))
+
+
+def climb(web, tree, twice=False):
+    """What is done from a tree on, always the first row that helps, two at once where none alone does."""
+    done = []
+    while True:
+        many = len(ends_of(web[0], tree))
+        help_it = [row for row in rows(web, tree) if row[-1] > many]
+        if twice and not help_it:
+            help_it = [row for row in twos(web, tree) if row[-1] > many]
+        if not help_it:
+            return (tuple(done), tree)
+        done.append(help_it[0])
+        for at in range(0, len(help_it[0]) - 1, 2):
+            tree = put_for(tree, help_it[0][at], help_it[0][at + 1])
+
+
+@functools.lru_cache(maxsize=None)
+def trees_of(web):
+    """All trees of a web."""
+    return tuple(all_trees(web))
+
+
+def some_trees(web, many):
+    """Some trees of a small web, from all over."""
+    trees = trees_of(web)
+    return trees[:: 1 + len(trees) // many]
+
+
+# A web with a tree of three leaves that no exchange helps, though another one has four: that of star(5).
+STUCK = (5, ((0, 1), (0, 2), (0, 3), (0, 4), (1, 2), (1, 3)))
+STUCK_TREE = ((0, 1), (0, 4), (1, 2), (1, 3))
+
+
+def is_best(web, prices, wishes, thing):
+    """Whether a thing is a pair of a tree that keeps the wishes and cases for a limit of its price less 1."""
+    if type(thing) is not tuple or len(thing) != 2 or not is_tree(web, thing[0]):
+        return False
+    busy = busy_in(web[0], thing[0])
+    if set(busy) & set(wishes):
+        return False
+    return is_cases(web, prices, (), wishes, price(prices, busy) - 1, thing[1])
+
+
+def no_pairs(tree, cases):
+    """What is near a pair of a tree of a ring, a way from 0 on, and cases, and is none."""
+    rest = tree[1:]
+    return [
+        (cases, tree), (tree,), (tree, cases, cases), [tree, cases], (list(tree), cases), (tree, list(cases)),
+        (rest, cases), (tree[::-1], cases), (tree + ((0, len(tree)),), cases), (tree, ()), (tree, None), (tree, "thin"),
+        ((), cases), (None, cases), (tree, (cases,)), ((tree,), cases), {tree: cases}, (tree, ("over",)),
+        (((1, 0),) + rest, cases), (((0, True),) + rest, cases), (((False, 1),) + rest, cases),
+        (((0, 2),) + rest, cases), (tree, cases + (0,)),
+    ]

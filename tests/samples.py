@@ -35,6 +35,12 @@ def most_ties(ties):
     return (60, tuple(sorted(list(way(60)[1]) + more[: ties - 59])))
 
 
+def far_ties(ties):
+    """A web of 60 places with so many ties: a way, and ties from far to far."""
+    more = sorted(full(60)[1], key=lambda tie: (tie[0] - tie[1], tie))
+    return (60, tuple(sorted(way(60)[1] + tuple(more[: ties - 59]))))
+
+
 def lots(n, ties):
     """The pieces of places 0 to n - 1, by joining labels."""
     label = list(range(n))
@@ -159,7 +165,7 @@ def put_in(thing, at, new):
 
 
 def spoilt(thing, depth=3):
-    """A tuple with one thing in it, or in one of its tuples, put in another's stead, left out, twice or turned about."""
+    """A tuple with one thing in it, or in a tuple within, put in another's stead, left out, twice or turned about."""
     yield list(thing)
     yield dict(enumerate(thing))
     yield thing[::-1]

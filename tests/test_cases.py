@@ -105,6 +105,16 @@ class RightCases(Asking):
         self.told(True, right_cases, way(4), (2,) * 4, (0,), (), 3, ("part", 1, OVER, other))
         self.told(False, right_cases, way(4), (2,) * 4, (0,), (), 4, ("part", 1, OVER, other))
 
+    def test_twelve_and_thirteen_places(self):
+        for n in (12, 13):
+            self.just_up_to(n - 3, ring(n), (1,) * n, (), (), THIN)
+            self.just_up_to(n - 3, way(n), (1,) * n, (), (), ("part", 5, THIN, ("apart", (0, 1, 2, 3, 4), 0, n - 1)))
+            self.just_up_to(6, full(n), tuple(range(7, 7 + n)), (), (), ("shares", ((n - 1, 7, 1),)))
+            self.just_up_to(19, star(n), (5,) * n, (0, 1, 2, 3), (), OVER)
+            for limit in (0, n, 60000):
+                self.told(True, right_cases, star(n), (5,) * n, (), (0,), limit, ("apart", (1, 2), 2, n - 1))
+                self.told(False, right_cases, star(n), (5,) * n, (), (), limit, ("apart", (1, 2), 2, n - 1))
+
     def test_a_part_of_sixty_places(self):
         thing = ("part", 30, THIN, ("apart", tuple(range(30)), 0, 59))
         self.just_up_to(57, way(60), (1,) * 60, (), (), thing)

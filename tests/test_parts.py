@@ -70,6 +70,21 @@ class States(Asking):
         self.told((2, 5, 59), parts.with_place, (2, 5), 59)
 
 
+class Same(Asking):
+
+    def test_just_what_is_told(self):
+        for told in (0, 1, 10 ** 99, (), (0, 1), ((0, 1), (1, 2), 3), (((0,), 1), (), 2)):
+            self.told(True, parts.is_same, told, told)
+
+    def test_anything_else(self):
+        told = ((0, 1), (1, 2), 3)
+        for thing in list(spoilt(told)) + odd_things() + great_things():
+            self.told(repr(thing) == repr(told), parts.is_same, told, thing)
+        for told, thing in ((1, True), (0, False), ((), []), ((), ""), ((0,), (False,)), ((0, 1), (0, 1, 2)), (0, ()),
+                            ((), 0), ((0, 1), (0,)), ((), None), (1, "1"), ((1,), [1])):
+            self.told(False, parts.is_same, told, thing)
+
+
 class Numbers(Asking):
 
     def test_price_of_places(self):

@@ -213,7 +213,8 @@ class WhyNot(Asking):
         for web, held, barred in (
             (way(4), (), (1,)), (way(4), (0,), (1,)), (way(4), (), (0, 1)), (ring(60), (), (0, 30)),
             (way(60), (), (30,)), (ring(60), (), (0, 2)), (star(60), (), (0,)), (star(60), (59,), (0,)),
-            (ladder(30), (), (0, 31)), (comb(30), (), (29,)), (comb(30), tuple(range(10)), (29, 59)), (way(3), (), (1,)),
+            (ladder(30), (), (0, 31)), (comb(30), (), (29,)), (comb(30), tuple(range(10)), (29, 59)),
+            (way(3), (), (1,)),
         ):
             self.answered(web, held, barred, False)
 

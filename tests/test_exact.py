@@ -148,6 +148,7 @@ class CheapestSet(Asking):
     def test_somewhat_beyond_the_bounds(self):
         self.assertEqual(self.met(way(5), (0, 2000, 3000, 4000, 0), (), ()), 9000)
         self.assertEqual(self.met(full(4), (0, 0, 0, 0), (), ()), 0)
+        self.assertEqual(self.met(full(4), (0, 0, 0, 0), (), (1, 2)), 0)
         self.assertEqual(self.met((2, ((0, 1),)), (3, 2), (), ()), 2)
 
 

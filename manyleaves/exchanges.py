@@ -1,6 +1,7 @@
 """Exchanges in a tree: a tie is put in and another one taken out."""
 
 from manyleaves.trees import tree_rows, way_in
+from manyleaves.webs import tie_of
 
 
 def exchanged(tree, put, taken):
@@ -17,7 +18,7 @@ def ties_to_put(web, tree):
 def ties_between(tree, one, other):
     """The ties on the way between two places in the tree, rising."""
     way = way_in(tree, one, other)
-    return sorted([(min(a, b), max(a, b)) for a, b in zip(way, way[1:])])
+    return sorted([tie_of(a, b) for a, b in zip(way, way[1:])])
 
 
 def ties_at(tree):

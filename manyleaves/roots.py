@@ -2,6 +2,7 @@
 
 from manyleaves.ints import is_between
 from manyleaves.trees import right_tree, steps_to
+from manyleaves.webs import tie_of
 
 
 def parents_of(tree, root):
@@ -35,5 +36,5 @@ def tree_of(parents):
     ties = []
     for place, parent in enumerate(parents):
         if parent is not None:
-            ties.append((min(place, parent), max(place, parent)))
+            ties.append(tie_of(place, parent))
     return tuple(sorted(ties))

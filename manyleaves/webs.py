@@ -21,6 +21,11 @@ def is_tie(thing, places):
     return is_between(a, 0, places - 1) and is_between(b, a + 1, places - 1)
 
 
+def tie_of(one, other):
+    """The tie of two unlike places, the lesser one first."""
+    return (min(one, other), max(one, other))
+
+
 def is_rising(items):
     """Whether each item is greater than the one ahead."""
     for at in range(1, len(items)):

@@ -311,6 +311,9 @@ def some_trees(web, many):
 STUCK = (5, ((0, 1), (0, 2), (0, 3), (0, 4), (1, 2), (1, 3)))
 STUCK_TREE = ((0, 1), (0, 4), (1, 2), (1, 3))
 
+# A web whose grown tree has three leaves, and an exchange helps it.
+HELPED = (7, ((0, 1), (0, 3), (1, 2), (1, 4), (3, 5), (4, 5), (5, 6)))
+
 
 def is_best(web, prices, wishes, thing):
     """Whether a thing is a pair of a tree that keeps the wishes and cases for a limit of its price less 1."""
@@ -332,3 +335,142 @@ def no_pairs(tree, cases):
         (((1, 0),) + rest, cases), (((0, True),) + rest, cases), (((False, 1),) + rest, cases),
         (((0, 2),) + rest, cases), (tree, cases + (0,)),
     ]
+
+
+def grow(web):
+    """The order in which places become busy, and the tree, by the words of the document."""
+    n = web[0]
+    near = {p: lot(web, p) - {p} for p in range(n)}
+    order, tree = [], set()
+    while True:
+        touched = set().union(*(near[p] for p in order)) - set(order)
+        untouched = set(range(n)) - set(order) - touched
+        if not untouched:
+            return (tuple(order), tuple(sorted(tree)))
+        ranked = [(-len(near[p] & untouched), p) for p in (touched if order else range(n))]
+        place = min(ranked)[1]
+        tree |= {(min(place, p), max(place, p)) for p in near[place] & untouched}
+        order.append(place)
+
+
+def renamed(web, names):
+    """A web with place i called names[i]."""
+    return (web[0], tuple(sorted(tuple(sorted((names[a], names[b]))) for a, b in web[1])))
+
+
+def some_names(n):
+    """Some ways of renaming n places: as they are, turned about, stepped through, and mixed up."""
+    yield tuple(range(n))
+    yield tuple(range(n))[::-1]
+    yield tuple(range(1, n)) + (0,)
+    for step in (3, 7, 11, 17):
+        if math.gcd(step, n) == 1:
+            yield tuple((step * p + 1) % n for p in range(n))
+    yield tuple(sorted(range(n), key=lambda p: (p * p * 5 + p) % 23))
+    yield tuple(sorted(range(n), key=lambda p: (p * 31 + 7) % 61))
+
+
+def sides(a, b):
+    return (a + b, tuple((x, a + y) for x in range(a) for y in range(b)))
+
+
+def is_ladder(web):
+    """Whether a web is a ladder, by taking off end columns until two are left."""
+    near = {p: lot(web, p) - {p} for p in range(web[0])}
+    if web[0] < 4 or web[0] > 4 and sorted(map(len, near.values())) != [2] * 4 + [3] * (web[0] - 4):
+        return False
+    while len(near) > 4:
+        ends = [(a, b) for a in near for b in near[a] if len(near[a]) == len(near[b]) == 2]
+        if not ends:
+            return False
+        a, b = ends[0]
+        (c,), (d,) = near[a] - {b}, near[b] - {a}
+        del near[a], near[b]
+        near[c].discard(a)
+        near[d].discard(b)
+        if c == d or d not in near[c] or len(near[c]) != 2 or len(near[d]) != 2:
+            return False
+    return sorted(map(len, near.values())) == [2] * 4
+
+
+def kind_of(web):
+    """The first kind that a web is of, None where it is of none."""
+    n, ties = web
+    near = [lot(web, p) - {p} for p in range(n)]
+    if all(len(lots(n, [other for other in ties if other != tie])) > 1 for tie in ties):
+        return "tree"
+    if all(len(some) == n - 1 for some in near):
+        return "full"
+    if all(len(some) == 2 for some in near):
+        return "ring"
+    one = set(range(n)) - near[0]
+    if set(ties) == {(min(a, b), max(a, b)) for a in one for b in near[0]}:
+        return "sides"
+    return "ladder" if is_ladder(web) else None
+
+
+def are_apart(web, one, other):
+    return not set(busy_in(web[0], one)) & set(busy_in(web[0], other))
+
+
+def is_two(web, thing):
+    if type(thing) is not tuple or len(thing) != 2 or not all(is_tree(web, tree) for tree in thing):
+        return False
+    return are_apart(web, *thing)
+
+
+def is_coloured(web, zero, one, thing):
+    """Whether a thing is cases of a colouring, by the words of the document."""
+    if type(thing) is not tuple or not thing or type(thing[0]) is not str:
+        return False
+    if thing[0] == "part" and len(thing) == 4:
+        if not is_places(web[0], thing[1:2]) or thing[1] in zero or thing[1] in one:
+            return False
+        return (is_coloured(web, tuple(sorted(zero + thing[1:2])), one, thing[2])
+                and is_coloured(web, zero, tuple(sorted(one + thing[1:2])), thing[3]))
+    if len(thing) < 3 or not is_int(thing[1]) or thing[1] not in (0, 1):
+        return False
+    own, others = (one, zero) if thing[1] else (zero, one)
+    if thing[0] == "bare" and len(thing) == 3:
+        return is_places(web[0], thing[2:]) and all(p in others for p in lot(web, thing[2]))
+    if thing[0] == "apart" and len(thing) == 5:
+        return is_why(web, own, others, ("apart",) + thing[2:])
+    return False
+
+
+def is_none(web, thing):
+    return is_coloured(web, (0,), (), thing)
+
+
+def colourings(n):
+    """All colourings of n places in which 0 has colour 0 and each place a colour."""
+    for some in choices(range(1, n)):
+        yield tuple(p for p in range(n) if p not in some), some
+
+
+@functools.lru_cache(maxsize=None)
+def two_sets(web):
+    """Two busy sets without a common place that are all places together, None where there are none."""
+    for zero, one in colourings(web[0]):
+        if is_busy_set(web, zero) and is_busy_set(web, one):
+            return (zero, one)
+    return None
+
+
+def plain_none(web, zero=(0,), one=()):
+    """Cases of a colouring by parting the first place without a colour always, None where there are none."""
+    n = web[0]
+    for colour, own, others in ((0, zero, one), (1, one, zero)):
+        for p in range(n):
+            if lot(web, p) <= set(others):
+                return ("bare", colour, p)
+        kept = lots(n, [tie for tie in web[1] if not set(tie) & set(others)])
+        kept = [some for some in kept if not set(some) & set(others)]
+        if len(kept) > 1:
+            return ("apart", colour, kept[0], kept[0][0], kept[1][0])
+    free = [p for p in range(n) if p not in zero and p not in one]
+    if not free:
+        return None
+    first = plain_none(web, tuple(sorted(zero + (free[0],))), one)
+    second = plain_none(web, zero, tuple(sorted(one + (free[0],))))
+    return None if first is None or second is None else ("part", free[0], first, second)

@@ -97,11 +97,36 @@ class Language(unittest.TestCase):
                 if isinstance(node, ast.ImportFrom):
                     bound += [alias.name for alias in node.names]
                 elif isinstance(node, ast.Assign):
-                    ast.literal_eval(node.value)
+                    self.plain_at_the_top(node.value, bound, f"{name}:{node.lineno}")
                     bound += [target.id for target in node.targets]
                 else:
                     bound.append(node.name)
             self.assertEqual(len(bound), len(set(bound)), name)
+
+    def plain_at_the_top(self, value, bound, at):
+        """See to it that a value is plain, or a dict of texts with plain values or defs that stand above."""
+        if isinstance(value, ast.Dict):
+            for key, item in zip(value.keys, value.values):
+                self.assertIsInstance(key, ast.Constant, at)
+                if isinstance(item, ast.Name):
+                    self.assertIn(item.id, bound, at)
+                else:
+                    self.assertNotIsInstance(item, (ast.Dict, ast.List), at)
+                    ast.literal_eval(item)
+        else:
+            ast.literal_eval(value)
+
+    def test_lists_and_dicts_of_the_top_are_read_by_an_index_alone(self):
+        for name, tree in self.trees.items():
+            kept = {row.targets[0].id for row in tree.body
+                    if isinstance(row, ast.Assign) and isinstance(row.value, (ast.Dict, ast.List))}
+            asked = [node.value for node in ast.walk(tree)
+                     if isinstance(node, ast.Subscript) and isinstance(node.ctx, ast.Load)]
+            asked += [side for node in ast.walk(tree) if isinstance(node, ast.Compare) for side in node.comparators
+                      if all(isinstance(op, (ast.In, ast.NotIn)) for op in node.ops)]
+            for node in ast.walk(tree):
+                if isinstance(node, ast.Name) and node.id in kept and isinstance(node.ctx, ast.Load):
+                    self.assertIn(node, asked, f"{name}:{node.lineno}")
 
     def test_imports(self):
         for name, tree in self.trees.items():

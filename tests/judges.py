@@ -474,3 +474,38 @@ def plain_none(web, zero=(0,), one=()):
     first = plain_none(web, tuple(sorted(zero + (free[0],))), one)
     second = plain_none(web, zero, tuple(sorted(one + (free[0],))))
     return None if first is None or second is None else ("part", free[0], first, second)
+
+
+class PlainKeeper:
+    """A keeper by the words of the document; what is refused is told by its name."""
+
+    def __init__(self, web):
+        self.web = web
+        self.tree = climb(web, grow(web)[1])[1]
+
+    def climb(self, tree):
+        done, self.tree = climb(self.web, tree)
+        return done
+
+    def put(self, a, b):
+        tie = tuple(sorted((a, b)))
+        if tie in self.web[1]:
+            return "Taken"
+        if len(self.web[1]) == 200:
+            return "TooMany"
+        self.web = (self.web[0], tuple(sorted({*self.web[1], tie})))
+        return self.climb(self.tree)
+
+    def drop(self, a, b):
+        tie = tuple(sorted((a, b)))
+        if tie not in self.web[1]:
+            return "NoTie"
+        left = tuple(sorted({*self.web[1]} - {tie}))
+        if len(lots(self.web[0], left)) > 1:
+            return "Apart"
+        self.web = (self.web[0], left)
+        if tie not in self.tree:
+            return ()
+        rest = {*self.tree} - {tie}
+        new = min(some for some in left if len(lots(self.web[0], rest | {some})) == 1)
+        return self.climb(tuple(sorted(rest | {new})))

@@ -36,7 +36,6 @@ BARRED_PARTS = ("dataclass", "overload", "contextmanager")
 BARRED_NODES = (
     ast.With, ast.Match, ast.Global, ast.Nonlocal, ast.Yield, ast.YieldFrom, ast.Await, ast.AsyncFor, ast.AsyncWith,
     ast.AsyncFunctionDef, ast.GeneratorExp, ast.NamedExpr, ast.Div, ast.MatMult, ast.Import, ast.Set, ast.SetComp,
-    ast.Try, ast.Starred,
 )
 TOP_NODES = (ast.ImportFrom, ast.FunctionDef, ast.ClassDef, ast.Assign)
 
@@ -162,6 +161,8 @@ class Language(unittest.TestCase):
             self.assertEqual(node.orelse, [], at)
         for at, node in self.nodes(ast.Constant):
             self.assertNotIsInstance(node.value, (float, complex), at)
+        for at, node in self.nodes(ast.Starred):
+            self.assertIsInstance(node.ctx, ast.Store, at)
         for at, node in self.nodes(ast.Compare):
             for op, side in zip(node.ops, node.comparators):
                 if isinstance(op, (ast.Is, ast.IsNot)):
@@ -177,6 +178,46 @@ class Language(unittest.TestCase):
             self.assertEqual(node.keywords, [], at)
             for row in node.body[1 if ast.get_docstring(node) else 0:]:
                 self.assertIsInstance(row, (ast.FunctionDef, ast.Pass), at)
+
+    def test_values_of_objects(self):
+        given = {node.attr for at, node in self.nodes(ast.Attribute) if isinstance(node.ctx, ast.Store)}
+        methods = {row.name for at, node in self.nodes(ast.ClassDef) for row in node.body
+                   if isinstance(row, ast.FunctionDef)}
+        self.assertEqual(given & (methods | METHODS | {"sort", "args", "encode", "decode", "hex"}), set())
+        called = [node.func for at, node in self.nodes(ast.Call)]
+        for at, node in self.nodes(ast.Attribute):
+            if isinstance(node.ctx, ast.Store):
+                self.assertEqual(ast.unparse(node.value), "self", at)
+            elif node not in called:
+                self.assertIn(node.attr, given, at)
+
+    def test_tries_take_own_errors_alone(self):
+        own = {node.name for at, node in self.nodes(ast.ClassDef)}
+        for at, node in self.nodes(ast.Try):
+            self.assertEqual((node.orelse, node.finalbody), ([], []), at)
+            for handler in node.handlers:
+                self.assertIsInstance(handler.type, ast.Name, at)
+                self.assertIn(handler.type.id, own, at)
+                self.assertIsNone(handler.name, at)
+
+    def test_keywords(self):
+        for at, node in self.nodes(ast.Call):
+            names = [keyword.arg for keyword in node.keywords]
+            if names:
+                self.assertIn((node.func.id, *names), (("sorted", "reverse"), ("max", "key"), ("min", "key")), at)
+
+    def test_what_is_walked_is_not_kept(self):
+        lazy = ("zip", "enumerate", "reversed", "range")
+        takers = ("list", "tuple", "dict", "sorted", "sum", "any", "all", "enumerate", "zip", "min", "max")
+        for name, tree in self.trees.items():
+            walked = [node.iter for node in ast.walk(tree) if isinstance(node, (ast.For, ast.comprehension))]
+            walked += [node.args[0] for node in ast.walk(tree) if isinstance(node, ast.Call) and node.args
+                       and isinstance(node.func, ast.Name) and node.func.id in takers]
+            for node in ast.walk(tree):
+                if isinstance(node, ast.Call):
+                    called = node.func.id if isinstance(node.func, ast.Name) else node.func.attr
+                    if called in lazy + ("items", "keys", "values"):
+                        self.assertIn(node, walked, f"{name}:{node.lineno}")
 
     def own_names(self, name):
         tree = self.trees[name]
